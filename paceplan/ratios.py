@@ -1,0 +1,91 @@
+"""Ratios [5]: tuples (top, bottom) of whole numbers in lowest terms, the bottom from 1 on."""
+
+from paceplan.errors import NoRatio
+from paceplan.things import is_whole
+
+NOUGHT = (0, 1)
+ONE = (1, 1)
+
+
+def greatest_divisor(one, other):
+    """The greatest whole number that divides both; of 0 and a number that number, without its sign."""
+    high = abs(one)
+    low = abs(other)
+    while low != 0:
+        rest = high % low
+        high = low
+        low = rest
+    return high
+
+
+def is_ratio(thing):
+    """Whether any thing is a ratio."""
+    if not isinstance(thing, tuple) or len(thing) != 2:
+        return False
+    top = thing[0]
+    bottom = thing[1]
+    if not is_whole(top) or not is_whole(bottom) or bottom < 1:
+        return False
+    return greatest_divisor(top, bottom) == 1
+
+
+def ratio(top, bottom):
+    """The ratio of two whole numbers, or NoRatio where the second is 0."""
+    if bottom == 0:
+        raise NoRatio("there is no ratio with a bottom of 0")
+    shared = greatest_divisor(top, bottom)
+    if bottom < 0:
+        shared = -shared
+    return (top // shared, bottom // shared)
+
+
+def plus(one, other):
+    """The sum of two ratios."""
+    return ratio(one[0] * other[1] + other[0] * one[1], one[1] * other[1])
+
+
+def minus(one, other):
+    """One ratio less the other."""
+    return ratio(one[0] * other[1] - other[0] * one[1], one[1] * other[1])
+
+
+def times(one, other):
+    """The product of two ratios."""
+    return ratio(one[0] * other[0], one[1] * other[1])
+
+
+def over(one, other):
+    """One ratio by the other, or NoRatio where the other is nought."""
+    if other[0] == 0:
+        raise NoRatio("there is no quotient by nought")
+    return ratio(one[0] * other[1], one[1] * other[0])
+
+
+def raised(one, power):
+    """One ratio to a whole power from 0 on."""
+    product = ONE
+    for step in range(power):
+        product = times(product, one)
+    return product
+
+
+def is_less(one, other):
+    """Whether one ratio is less than the other."""
+    return one[0] * other[1] < other[0] * one[1]
+
+
+def total(some):
+    """The sum of a list or tuple of ratios; of none nought."""
+    so_far = NOUGHT
+    for one in some:
+        so_far = plus(so_far, one)
+    return so_far
+
+
+def greatest(some):
+    """The greatest of a list or tuple of one or more ratios."""
+    best = some[0]
+    for one in some:
+        if is_less(best, one):
+            best = one
+    return best

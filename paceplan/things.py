@@ -1,0 +1,15 @@
+"""What any thing is, and a copy of one [2]."""
+
+
+def is_whole(thing):
+    """Whether thing is a whole number; True and False are ints to Python, but none here."""
+    return isinstance(thing, int) and not isinstance(thing, bool)
+
+
+def copied(thing):
+    """A copy of thing, so that a list changed later by the one who handed it in changes nothing here."""
+    if isinstance(thing, list):
+        return [copied(part) for part in thing]
+    if isinstance(thing, tuple):
+        return tuple([copied(part) for part in thing])
+    return thing

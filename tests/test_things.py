@@ -1,0 +1,33 @@
+"""Point 2: what a whole number is, and that what is kept is a copy."""
+
+import unittest
+
+from paceplan.things import copied, is_whole
+
+
+class WholeNumbers(unittest.TestCase):
+    def test_whole_numbers(self):
+        for thing in (0, 1, -1, 10 ** 199, -(10 ** 199)):
+            self.assertIs(is_whole(thing), True)
+
+    def test_other_things(self):
+        for thing in (True, False, None, "", "1", (), (1,), [], [1]):
+            self.assertIs(is_whole(thing), False)
+
+
+class Copies(unittest.TestCase):
+    def test_plain_things_are_alike_to_the_kind(self):
+        for thing in (0, True, None, "a", (), [], (1, [True, ("x", None)], [[]])):
+            self.assertEqual(repr(copied(thing)), repr(thing))
+
+    def test_lists_at_any_depth_are_others(self):
+        inner = [1]
+        thing = [inner, (inner, 2)]
+        copy = copied(thing)
+        inner.append(3)
+        thing.append(4)
+        self.assertEqual(copy, [[1], ([1], 2)])
+
+
+if __name__ == "__main__":
+    unittest.main()
