@@ -103,25 +103,25 @@ class NoRatio(PaceError):
     """There is no ratio with nought below [5]."""
 
     def __init__(self, text):
-        self.text = copied(text)
+        self.text = text
 
 
 class NoWork(PaceError):
     """The work can't come to the keeper [33]."""
 
     def __init__(self, text):
-        self.text = copied(text)
+        self.text = text
 
 
 class NoTurn(PaceError):
     """The keeper has no turn left [33]."""
 
     def __init__(self, text):
-        self.text = copied(text)
+        self.text = text
 
 
 class NoRow(PaceError):
     """The row is none of the desk's [37]."""
 
     def __init__(self, text):
-        self.text = copied(text)
+        self.text = text
