@@ -1,7 +1,7 @@
 """Ratios [5]: tuples (top, bottom) of whole numbers in lowest terms, the bottom from 1 on."""
 
 from paceplan.errors import NoRatio
-from paceplan.things import is_whole
+from paceplan.things import is_tuple_of, is_whole
 
 NOUGHT = (0, 1)
 ONE = (1, 1)
@@ -20,13 +20,23 @@ def greatest_divisor(one, other):
 
 def is_ratio(thing):
     """Whether any thing is a ratio."""
-    if not isinstance(thing, tuple) or len(thing) != 2:
+    if not is_tuple_of(thing, 2):
         return False
     top = thing[0]
     bottom = thing[1]
     if not is_whole(top) or not is_whole(bottom) or bottom < 1:
         return False
     return greatest_divisor(top, bottom) == 1
+
+
+def is_ratio_pair(thing):
+    """Whether any thing is a pair of ratios."""
+    return is_tuple_of(thing, 2) and is_ratio(thing[0]) and is_ratio(thing[1])
+
+
+def is_above_nought(thing):
+    """Whether any thing is a ratio above nought."""
+    return is_ratio(thing) and thing[0] > 0
 
 
 def ratio(top, bottom):

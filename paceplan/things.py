@@ -6,6 +6,16 @@ def is_whole(thing):
     return isinstance(thing, int) and not isinstance(thing, bool)
 
 
+def is_tuple_of(thing, length):
+    """Whether thing is a tuple of so many parts."""
+    return isinstance(thing, tuple) and len(thing) == length
+
+
+def is_number_of(thing, count):
+    """Whether thing is the number, from 0, of one of so many."""
+    return is_whole(thing) and 0 <= thing < count
+
+
 def copied(thing):
     """A copy of thing, so that a list changed later by the one who handed it in changes nothing here."""
     if isinstance(thing, list):

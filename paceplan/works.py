@@ -1,8 +1,8 @@
 """Works, leans and sheets [6], and windows that are drawn in [7]."""
 
 from paceplan.errors import NoRoom, NoSheet
-from paceplan.ratios import is_ratio
-from paceplan.things import is_whole
+from paceplan.ratios import is_above_nought
+from paceplan.things import is_number_of, is_tuple_of
 
 TURNS = 24
 MOST_WORKS = 20
@@ -11,7 +11,7 @@ MOST_LEANS = 40
 
 def is_sheet_shaped(thing):
     """Whether thing is a tuple of two tuples, neither of which is too long."""
-    if not isinstance(thing, tuple) or len(thing) != 2:
+    if not is_tuple_of(thing, 2):
         return False
     works = thing[0]
     leans = thing[1]
@@ -22,27 +22,22 @@ def is_sheet_shaped(thing):
 
 def is_work(thing):
     """Whether any thing is a work (first, last, amount)."""
-    if not isinstance(thing, tuple) or len(thing) != 3:
+    if not is_tuple_of(thing, 3):
         return False
     first = thing[0]
     last = thing[1]
-    amount = thing[2]
-    if not is_whole(first) or not is_whole(last):
+    if not is_number_of(first, TURNS) or not is_number_of(last, TURNS):
         return False
-    if not 0 <= first <= last < TURNS:
-        return False
-    return is_ratio(amount) and amount[0] > 0
+    return first <= last and is_above_nought(thing[2])
 
 
 def is_lean(thing, count):
     """Whether any thing is a pair of unlike numbers of so many works."""
-    if not isinstance(thing, tuple) or len(thing) != 2:
+    if not is_tuple_of(thing, 2):
         return False
     ahead = thing[0]
     behind = thing[1]
-    if not is_whole(ahead) or not is_whole(behind):
-        return False
-    return 0 <= ahead < count and 0 <= behind < count and ahead != behind
+    return is_number_of(ahead, count) and is_number_of(behind, count) and ahead != behind
 
 
 def no_leanings(count):

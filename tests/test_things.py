@@ -2,7 +2,7 @@
 
 import unittest
 
-from paceplan.things import copied, is_whole
+from paceplan.things import copied, is_number_of, is_tuple_of, is_whole
 
 
 class WholeNumbers(unittest.TestCase):
@@ -13,6 +13,20 @@ class WholeNumbers(unittest.TestCase):
     def test_other_things(self):
         for thing in (True, False, None, "", "1", (), (1,), [], [1]):
             self.assertIs(is_whole(thing), False)
+
+
+class TuplesAndNumbers(unittest.TestCase):
+    def test_tuples_of_a_length(self):
+        for thing, length in (((), 0), ((1,), 1), ((None, []), 2)):
+            self.assertIs(is_tuple_of(thing, length), True)
+        for thing, length in (([], 0), ("ab", 2), ((1,), 2), ((1, 2, 3), 2), (None, 0), (2, 2)):
+            self.assertIs(is_tuple_of(thing, length), False)
+
+    def test_numbers_of_so_many(self):
+        for thing, count in ((0, 1), (0, 24), (23, 24)):
+            self.assertIs(is_number_of(thing, count), True)
+        for thing, count in ((0, 0), (24, 24), (-1, 24), (True, 24), (False, 24), ("0", 24), (None, 24), ((0,), 24)):
+            self.assertIs(is_number_of(thing, count), False)
 
 
 class Copies(unittest.TestCase):
