@@ -51,37 +51,54 @@ def ratio(top, bottom):
 
 def plus(one, other):
     """The sum of two ratios."""
-    return ratio(one[0] * other[1] + other[0] * one[1], one[1] * other[1])
+    # Only what both bottoms share can be left in common with the top, so no divisor of great products is sought.
+    shared = greatest_divisor(one[1], other[1])
+    top = one[0] * (other[1] // shared) + other[0] * (one[1] // shared)
+    rest = greatest_divisor(top, shared)
+    return (top // rest, (one[1] // shared) * (other[1] // rest))
 
 
 def minus(one, other):
     """One ratio less the other."""
-    return ratio(one[0] * other[1] - other[0] * one[1], one[1] * other[1])
+    return plus(one, (-other[0], other[1]))
 
 
 def times(one, other):
     """The product of two ratios."""
-    return ratio(one[0] * other[0], one[1] * other[1])
+    # A top has nothing in common with its own bottom, so only the tops and bottoms across are looked at.
+    left = greatest_divisor(one[0], other[1])
+    right = greatest_divisor(other[0], one[1])
+    return ((one[0] // left) * (other[0] // right), (one[1] // right) * (other[1] // left))
 
 
 def over(one, other):
     """One ratio by the other, or NoRatio where the other is nought."""
     if other[0] == 0:
         raise NoRatio("there is no quotient by nought")
-    return ratio(one[0] * other[1], one[1] * other[0])
+    return times(one, ratio(other[1], other[0]))
 
 
 def raised(one, power):
     """One ratio to a whole power from 0 on."""
-    product = ONE
+    # What has nothing in common has nothing in common when raised.
+    top = 1
+    bottom = 1
     for step in range(power):
-        product = times(product, one)
-    return product
+        top = top * one[0]
+        bottom = bottom * one[1]
+    return (top, bottom)
 
 
 def is_less(one, other):
     """Whether one ratio is less than the other."""
     return one[0] * other[1] < other[0] * one[1]
+
+
+def lesser(one, other):
+    """The lesser one of two ratios."""
+    if is_less(other, one):
+        return other
+    return one
 
 
 def total(some):

@@ -16,6 +16,13 @@ def is_number_of(thing, count):
     return is_whole(thing) and 0 <= thing < count
 
 
+def is_rising(thing, count):
+    """Whether thing is a tuple of rising numbers, from 0, of some of so many."""
+    if not isinstance(thing, tuple) or not all([is_number_of(part, count) for part in thing]):
+        return False
+    return all([thing[place - 1] < thing[place] for place in range(1, len(thing))])
+
+
 def copied(thing):
     """A copy of thing, so that a list changed later by the one who handed it in changes nothing here."""
     if isinstance(thing, list):

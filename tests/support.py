@@ -78,6 +78,29 @@ def high_table(top):
     return ("table", ((NOUGHT, (1, 3)), (pair(speed / 3), pair(speed / 3 + 1)), (pair(speed), pair(speed * 5 + 1))))
 
 
+def leaned_on(leans, work):
+    """All that work leans on, found by walking from it: another way than the program's."""
+    found = set()
+    waiting = [work]
+    while waiting:
+        behind = waiting.pop()
+        for base, leaner in leans:
+            if leaner == behind and base not in found:
+                found.add(base)
+                waiting.append(base)
+    return found
+
+
+def plan_of(turns):
+    """A plan of twenty-four turns with the pieces of some of them told."""
+    return tuple([tuple(turns.get(turn, ())) for turn in range(24)])
+
+
+def speeds_told(speeds):
+    """Twenty-four speeds, nought but where told."""
+    return tuple([speeds.get(turn, NOUGHT) for turn in range(24)])
+
+
 def works_from(source, count, bottoms=4):
     """So many works, of windows of all lengths."""
     works = []

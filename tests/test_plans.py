@@ -6,20 +6,13 @@ from random import Random
 from paceplan.errors import NoPlan, NoSpeed
 from paceplan.plans import power_of, right_plan, speeds_of
 from paceplan.rules import power_at, top_of
-from support import (NO_RATIOS, NOUGHT, ONE, STRAYS, Case, fraction, pair, plan_from, ratio_from, sheet_from,
+from support import (NO_RATIOS, NOUGHT, ONE, STRAYS, Case, fraction, pair, plan_from, plan_of, ratio_from, sheet_from,
                      table_from)
 
 HALF = (1, 2)
 WORKS = ((2, 5, ONE), (3, 9, (2, 1)), (0, 23, (3, 2)))
 SHEET = (WORKS, ())
 EMPTY = ((),) * 24
-
-
-def plan_of(turns):
-    """A plan of twenty-four turns with the pieces of some of them told."""
-    return tuple([tuple(turns.get(turn, ())) for turn in range(24)])
-
-
 RIGHT = plan_of({2: [(0, HALF)], 5: [(1, ONE), (0, HALF), (2, HALF)], 9: [(1, ONE)], 23: [(2, ONE)]})
 
 
@@ -90,7 +83,7 @@ class Shapes(PlanCase):
         self.refuse("shape", -1, ((), ()), EMPTY + ((),))
 
     def test_turns_that_are_no_tuples(self):
-        for thing in (None, True, 0, "", "ab", [], {}.get("no")):
+        for thing in (None, True, 0, "", "ab", []):
             self.refuse("shape", -1, SHEET, changed(0, thing))
             self.refuse("shape", -1, SHEET, changed(23, thing))
 

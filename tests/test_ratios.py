@@ -6,7 +6,7 @@ from fractions import Fraction
 from random import Random
 
 from paceplan.errors import NoRatio
-from paceplan.ratios import greatest, is_less, is_ratio, minus, over, plus, raised, ratio, times, total
+from paceplan.ratios import greatest, is_less, is_ratio, lesser, minus, over, plus, raised, ratio, times, total
 
 LONG = 10 ** 199
 SOME = ((0, 1), (1, 1), (-1, 1), (1, 2), (-1, 2), (2, 3), (-7, 6), (5, 4), (9, 1), (-9, 1), (1, 6))
@@ -147,6 +147,21 @@ class Reckoning(RatioCase):
                 with self.subTest(one=one, power=power):
                     self.assert_told(raised(one, power), pair(Fraction(*one) ** power))
 
+    def test_all_small_ones(self):
+        small = sorted({pair(Fraction(top, bottom)) for top in range(-9, 10) for bottom in range(1, 13)})
+        pairs = [(one, other) for one in small for other in small]
+        self.assert_like_fractions(plus, lambda one, other: one + other, pairs)
+        self.assert_like_fractions(minus, lambda one, other: one - other, pairs)
+        self.assert_like_fractions(times, lambda one, other: one * other, pairs)
+
+    def test_bottoms_that_share_much(self):
+        for bottom in (LONG, 6 * LONG, 2 ** 200 * 3 ** 100):
+            ones = [pair(Fraction(top, bottom)) for top in (1, -1, 6, 35, LONG - 1, -(2 ** 190))]
+            pairs = [(one, other) for one in ones for other in ones]
+            self.assert_like_fractions(plus, lambda one, other: one + other, pairs)
+            self.assert_like_fractions(minus, lambda one, other: one - other, pairs)
+            self.assert_like_fractions(over, lambda one, other: one / other, pairs)
+
     def test_what_is_told_may_be_handed_in_again(self):
         great = raised(RATIOS[-2], 6)
         self.assertIs(is_ratio(great), True)
@@ -155,10 +170,12 @@ class Reckoning(RatioCase):
 
 class Order(RatioCase):
     def test_either_way_round(self):
-        for lesser, more in (((1, 3), (1, 2)), ((-1, 2), (-1, 3)), ((-1, 9), (0, 1)), ((0, 1), (1, 9)),
-                             ((LONG - 1, LONG), (1, 1)), ((-9, 1), (1, 6))):
-            self.assertIs(is_less(lesser, more), True)
-            self.assertIs(is_less(more, lesser), False)
+        for less, more in (((1, 3), (1, 2)), ((-1, 2), (-1, 3)), ((-1, 9), (0, 1)), ((0, 1), (1, 9)),
+                           ((LONG - 1, LONG), (1, 1)), ((-9, 1), (1, 6))):
+            self.assertIs(is_less(less, more), True)
+            self.assertIs(is_less(more, less), False)
+            self.assert_told(lesser(less, more), less)
+            self.assert_told(lesser(more, less), less)
 
     def test_like_ones(self):
         for one in RATIOS:

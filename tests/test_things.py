@@ -2,7 +2,7 @@
 
 import unittest
 
-from paceplan.things import copied, is_number_of, is_tuple_of, is_whole
+from paceplan.things import copied, is_number_of, is_rising, is_tuple_of, is_whole
 
 
 class WholeNumbers(unittest.TestCase):
@@ -27,6 +27,13 @@ class TuplesAndNumbers(unittest.TestCase):
             self.assertIs(is_number_of(thing, count), True)
         for thing, count in ((0, 0), (24, 24), (-1, 24), (True, 24), (False, 24), ("0", 24), (None, 24), ((0,), 24)):
             self.assertIs(is_number_of(thing, count), False)
+
+    def test_rising_numbers(self):
+        for thing in ((), (0,), (23,), (0, 1, 23), tuple(range(24))):
+            self.assertIs(is_rising(thing, 24), True)
+        for thing in ([], [0, 1], (1, 0), (1, 1), (0, 24), (-1, 0), (0, True), (False,), (0, "1"), (0, None), ((0,),),
+                      None, 0, "01", (0, 2, 1), (5, 6, 6)):
+            self.assertIs(is_rising(thing, 24), False)
 
 
 class Copies(unittest.TestCase):

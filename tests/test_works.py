@@ -7,6 +7,7 @@ from random import Random
 
 from paceplan.errors import NoRoom, NoSheet
 from paceplan.works import drawn_in, right_sheet
+from support import leaned_on
 
 WORK = (0, 23, (1, 1))
 CHAIN = tuple([(place, place + 1) for place in range(19)])
@@ -20,19 +21,6 @@ def works_of(count):
 def windows_of(*windows):
     """Works with these windows, their amounts unlike so that a swap would be seen."""
     return tuple([(first, last, (2 * place + 1, 2)) for place, (first, last) in enumerate(windows)])
-
-
-def leaned_on(leans, work):
-    """All that work leans on, found by walking from it: another way than the program's."""
-    found = set()
-    waiting = [work]
-    while waiting:
-        behind = waiting.pop()
-        for base, leaner in leans:
-            if leaner == behind and base not in found:
-                found.add(base)
-                waiting.append(base)
-    return found
 
 
 def ring_by_walking(count, leans):
