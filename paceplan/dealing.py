@@ -3,7 +3,7 @@
 from paceplan.errors import NoRoom
 from paceplan.ratios import NOUGHT, lesser, minus
 from paceplan.stretches import layer_speeds
-from paceplan.works import TURNS, all_leanings, drawn_in
+from paceplan.works import TURNS, all_leanings, drawn_in, in_window
 
 
 def first_to_come(works, leanings, waiting):
@@ -31,7 +31,7 @@ def deal_turn(works, order, left, turn, speed):
     pieces = []
     room = speed
     for number in order:
-        if not works[number][0] <= turn <= works[number][1]:
+        if not in_window(works[number], turn):
             continue
         amount = lesser(left[number], room)
         if amount != NOUGHT:

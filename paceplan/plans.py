@@ -4,7 +4,7 @@ from paceplan.errors import NoPlan
 from paceplan.ratios import is_above_nought, total
 from paceplan.rules import power_at
 from paceplan.things import is_number_of, is_tuple_of
-from paceplan.works import TURNS
+from paceplan.works import TURNS, in_window
 
 
 def is_piece(thing, count):
@@ -27,7 +27,7 @@ def are_in_place(works, turn, pieces):
     numbers = [piece[0] for piece in pieces]
     if len(set(numbers)) < len(numbers):
         return False
-    return all([works[number][0] <= turn <= works[number][1] for number in numbers])
+    return all([in_window(works[number], turn) for number in numbers])
 
 
 def pieces_in_order(plan):

@@ -103,9 +103,13 @@ def lesser(one, other):
 
 def total(some):
     """The sum of a list or tuple of ratios; of none nought."""
-    so_far = NOUGHT
+    # Those of like bottoms are summed by their tops alone, so that few divisors are sought.
+    tops = {}
     for one in some:
-        so_far = plus(so_far, one)
+        tops[one[1]] = tops.get(one[1], 0) + one[0]
+    so_far = NOUGHT
+    for bottom, top in tops.items():
+        so_far = plus(so_far, ratio(top, bottom))
     return so_far
 
 
@@ -116,3 +120,17 @@ def greatest(some):
         if is_less(best, one):
             best = one
     return best
+
+
+def whole_parts(some):
+    """The ratios, all times one number that makes them whole, so that they and their sums are soon compared."""
+    bottom = 1
+    for one in some:
+        bottom = bottom * (one[1] // greatest_divisor(bottom, one[1]))
+    return [one[0] * (bottom // one[1]) for one in some]
+
+
+def falling_order(some):
+    """The places of ratios in a list or tuple, that of the greatest one first."""
+    parts = whole_parts(some)
+    return sorted(range(len(parts)), key=lambda place: -parts[place])

@@ -1,7 +1,7 @@
 """Rules of power [8], and their powers and slopes at a speed [9]."""
 
 from paceplan.errors import NoRule, NoSpeed
-from paceplan.ratios import NOUGHT, is_less, is_ratio_pair, minus, over, plus, raised, times
+from paceplan.ratios import NOUGHT, greatest, is_less, is_ratio_pair, minus, over, plus, raised, times
 from paceplan.things import is_tuple_of, is_whole
 
 POWER = "power"
@@ -60,6 +60,18 @@ def top_of(rule):
     return rule[1][-1][0]
 
 
+def is_beyond(rule, speed):
+    """Whether a speed is above a table's greatest one."""
+    top = top_of(rule)
+    return top is not None and is_less(top, speed)
+
+
+def ask_greatest(rule, speeds):
+    """Refuse with NoSpeed the greatest of speeds, where it is above a table's greatest one."""
+    if len(speeds) > 0 and is_beyond(rule, greatest(speeds)):
+        raise NoSpeed(greatest(speeds))
+
+
 def place_of(rows, speed):
     """The number of the first row whose speed is not below a speed, which is not above the greatest one."""
     place = 0
@@ -72,7 +84,7 @@ def power_at(rule, speed):
     """The power of a rule at a speed, or NoSpeed where that is above a table's greatest one."""
     if rule[0] == POWER:
         return raised(speed, rule[1])
-    if is_less(top_of(rule), speed):
+    if is_beyond(rule, speed):
         raise NoSpeed(speed)
     rows = rule[1]
     place = place_of(rows, speed)

@@ -1,7 +1,7 @@
 """Weights, densities and stretches of turns [16, 17], the layers and speeds of works [18]."""
 
-from paceplan.ratios import NOUGHT, greatest_divisor, over, total
-from paceplan.works import TURNS
+from paceplan.ratios import NOUGHT, over, total, whole_parts
+from paceplan.works import TURNS, in_window
 
 
 def lies_in(work, turns):
@@ -23,7 +23,7 @@ def kept_windows(works, left):
     """For each work the first and last place, among the turns left, of what is left of its window; None of a void."""
     windows = []
     for work in works:
-        places = [place for place, turn in enumerate(left) if work[0] <= turn <= work[1]]
+        places = [place for place, turn in enumerate(left) if in_window(work, turn)]
         windows.append((places[0], places[-1]) if len(places) > 0 else None)
     return windows
 
@@ -32,14 +32,6 @@ def held(windows, begin, end):
     """The numbers of the windows that lie in the places from begin to end, and are not void."""
     return [number for number, window in enumerate(windows)
             if window is not None and begin <= window[0] and window[1] <= end]
-
-
-def whole_amounts(works):
-    """The amounts of works, all times one number that makes them whole, so that sums of them are soon compared."""
-    bottom = 1
-    for work in works:
-        bottom = bottom * (work[2][1] // greatest_divisor(bottom, work[2][1]))
-    return [work[2][0] * (bottom // work[2][1]) for work in works]
 
 
 def tightest_places(windows, amounts, count):
@@ -62,7 +54,7 @@ def tightest_places(windows, amounts, count):
 def tightest(works, left):
     """The tightest stretch of the turns left, and the numbers of the works whose windows, so, lie in it."""
     windows = kept_windows(works, left)
-    places = tightest_places(windows, whole_amounts(works), len(left))
+    places = tightest_places(windows, whole_parts([work[2] for work in works]), len(left))
     return (left[places[0]:places[1] + 1], tuple(held(windows, places[0], places[1])))
 
 

@@ -31,6 +31,11 @@ def is_work(thing):
     return first <= last and is_above_nought(thing[2])
 
 
+def in_window(work, turn):
+    """Whether a turn is in the window of a work."""
+    return work[0] <= turn <= work[1]
+
+
 def is_lean(thing, count):
     """Whether any thing is a pair of unlike numbers of so many works."""
     if not is_tuple_of(thing, 2):

@@ -5,7 +5,7 @@ import unittest
 from fractions import Fraction
 
 from paceplan.errors import NoRoom
-from paceplan.rules import right_rule
+from paceplan.rules import right_rule, slopes_at, top_of
 from paceplan.works import drawn_in, right_sheet
 
 NOUGHT = (0, 1)
@@ -111,6 +111,18 @@ def works_from(source, count, bottoms=4):
     return tuple(works)
 
 
+def price_from(source, rule):
+    """A price that is right for a rule: any of its speeds, with the left slope, the right one, or one between."""
+    top = top_of(rule)
+    speeds = [NOUGHT, ratio_from(source, 5, 4)]
+    if top is not None:
+        speeds = [row[0] for row in rule[1]] + [pair(fraction(top) * source.randrange(9) / 8)]
+    speed = source.choice(speeds)
+    left, right = slopes_at(rule, speed)
+    high = fraction(left) + source.randrange(3) if right is None else fraction(right)
+    return (speed, pair(fraction(left) + (high - fraction(left)) * source.randrange(4) / 3))
+
+
 def has_room(sheet):
     try:
         return len(drawn_in(sheet)) == len(sheet[0])
@@ -155,3 +167,10 @@ def plan_from(source, sheet, order):
             if part != NOUGHT:
                 turns[turn].append((number, part))
     return tuple([tuple(pieces) for pieces in turns])
+
+
+def works_and_plan(source, most):
+    """One to so many works without leans, and a right plan of them."""
+    count = source.randrange(1, most + 1)
+    works = works_from(source, count)
+    return works, plan_from(source, (works, ()), list(range(count)))

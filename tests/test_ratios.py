@@ -6,7 +6,8 @@ from fractions import Fraction
 from random import Random
 
 from paceplan.errors import NoRatio
-from paceplan.ratios import greatest, is_less, is_ratio, lesser, minus, over, plus, raised, ratio, times, total
+from paceplan.ratios import (falling_order, greatest, is_less, is_ratio, lesser, minus, over, plus, raised, ratio,
+                             times, total, whole_parts)
 
 LONG = 10 ** 199
 SOME = ((0, 1), (1, 1), (-1, 1), (1, 2), (-1, 2), (2, 3), (-7, 6), (5, 4), (9, 1), (-9, 1), (1, 6))
@@ -192,7 +193,24 @@ class Order(RatioCase):
             self.assert_told(total(kind([(-5, 4)])), (-5, 4))
             self.assert_told(total(kind([(1, 2), (1, 3), (1, 6)])), (1, 1))
             self.assert_told(total(kind([(1, 2), (-1, 2)])), (0, 1))
+            self.assert_told(total(kind([(1, 6), (1, 6), (1, 6)])), (1, 2))
+            self.assert_told(total(kind([(1, 6), (1, 2), (1, 6), (-3, 2), (1, 6)])), (-1, 2))
+            self.assert_told(total(kind([(1, 6), (5, 1), (-1, 6), (-5, 1)])), (0, 1))
             self.assert_told(total(kind(RATIOS)), pair(sum([Fraction(*one) for one in RATIOS])))
+
+    def test_whole_parts(self):
+        for kind in (list, tuple):
+            self.assertEqual(whole_parts(kind([])), [])
+            self.assertEqual(whole_parts(kind([(3, 1), (0, 1)])), [3, 0])
+            self.assertEqual(whole_parts(kind([(1, 4), (-5, 6), (2, 1)])), [3, -10, 24])
+
+    def test_falling_order(self):
+        for kind in (list, tuple):
+            self.assertEqual(falling_order(kind([])), [])
+            self.assertEqual(falling_order(kind([(1, 3), (1, 2), (2, 5), (-1, 2)])), [1, 2, 0, 3])
+            places = falling_order(kind(RATIOS))
+            self.assertEqual([RATIOS[place] for place in places], sorted(RATIOS, key=lambda one: -Fraction(*one)))
+        self.assertEqual(sorted(falling_order([(1, 2), (2, 1), (1, 2)])), [0, 1, 2])
 
     def test_greatest(self):
         for kind in (list, tuple):
