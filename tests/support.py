@@ -6,6 +6,7 @@ from fractions import Fraction
 
 from paceplan.errors import NoRoom
 from paceplan.rules import right_rule, slopes_at, top_of
+from paceplan.stretches import layers
 from paceplan.works import drawn_in, right_sheet
 
 NOUGHT = (0, 1)
@@ -109,6 +110,15 @@ def works_from(source, count, bottoms=4):
         last = min(23, first + source.choice([0, 1, 2, 4, 8, 23]))
         works.append((first, last, ratio_from(source, 5, bottoms)))
     return tuple(works)
+
+
+def speeds_of_layers(works):
+    """For each work the density of the layer in which it stands."""
+    speeds = {}
+    for turns, numbers in layers(works):
+        for number in numbers:
+            speeds[number] = pair(sum([fraction(works[other][2]) for other in numbers]) / len(turns))
+    return tuple([speeds[number] for number in range(len(works))])
 
 
 def price_from(source, rule):

@@ -10,9 +10,8 @@ from paceplan.leastchecker import least_asked
 from paceplan.plans import power_of, speeds_of
 from paceplan.prices import hands_power, price_bound, right_prices
 from paceplan.rules import plain_slope
-from paceplan.stretches import layer_density, layers
-from support import (NOUGHT, ONE, STRAYS, Case, fraction, high_table, pair, plan_of, price_from, table_from,
-                     works_and_plan, works_from)
+from support import (NOUGHT, ONE, STRAYS, Case, fraction, high_table, pair, plan_of, price_from, speeds_of_layers,
+                     table_from, works_and_plan, works_from)
 
 HALF = (1, 2)
 SQUARE = ("power", 2)
@@ -29,12 +28,7 @@ WRONG = plan_of({0: [(0, ONE)], 1: [(1, (2, 1))]})
 
 def prices_of_layers(works, rule):
     """For each work its layer's density and the plain slope there."""
-    prices = {}
-    for layer in layers(works):
-        speed = layer_density(works, layer)
-        for number in layer[1]:
-            prices[number] = (speed, plain_slope(rule, speed))
-    return tuple([prices[number] for number in range(len(works))])
+    return tuple([(speed, plain_slope(rule, speed)) for speed in speeds_of_layers(works)])
 
 
 def even_plan(works):
